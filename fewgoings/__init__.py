@@ -1,0 +1,1 @@
+"""Fewgoings: how many left-to-right passes a program needs."""
