@@ -13,8 +13,8 @@ What stands behind the first word of a statement is kept in these forms:
 
 from fewgoings.errors import BadProgram
 from fewgoings.statements import Statement, link
+from fewgoings.texts import ALPHABET, is_of_letters
 
-ALPHABET = "abcdefghijklmnopqrstuvwxyz"
 WORDS = (
     "symbols", "cell", "part", "main", "right", "left", "write", "copy", "set",
     "add", "if", "else", "while", "do", "stop", "at", "not",
@@ -35,11 +35,6 @@ def parse(text):
     parser = Parser(text)
     parser.read_program()
     return parser
-
-
-def is_of_letters(word):
-    """Whether all characters of a string are letters."""
-    return all([sign in ALPHABET for sign in word])
 
 
 def is_in_order(word, order):

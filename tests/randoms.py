@@ -111,3 +111,70 @@ class Maker:
                 depth = (len(lines[at]) - len(lines[at].lstrip(" "))) * " "
                 lines.insert(at + rnd.randint(0, 1), depth + rnd.choice(["else", "if at a", "right", "do p", "main"]))
         return "\n".join(lines)
+
+
+class Sweeper:
+    """Makes programs that go from mark to mark some times and mostly end, whose passes are worth asking for."""
+
+    def __init__(self, seed):
+        self.random = random.Random(seed)
+
+    def program(self, symbols="", letters=""):
+        rnd = self.random
+        self.symbols = symbols or rnd.choice(["ab", "ab", "ab", "abc", "xy", "abyz"])
+        self.letters = letters or "axz"
+        self.mosts = {name: rnd.randint(1, 2) for name in ["n", "m"][:rnd.choice([0, 1, 1, 2])]}
+        self.parts = []
+        lines = [f"symbols {self.symbols}", *[f"cell {name} {most}" for name, most in self.mosts.items()]]
+        if rnd.random() < 0.3:
+            lines += ["part p", *self.some(1, 2)]
+            self.parts = ["p"]
+        lines += ["main"]
+        ahead = True
+        for _ in range(rnd.randint(1, 5)):
+            lines += self.some(1, 1) if rnd.random() < 0.3 else []
+            lines += self.sweep(ahead)
+            ahead = not ahead if rnd.random() < 0.9 else ahead
+        if sum(line.startswith(" ") and line.strip() != "else" for line in lines) > 20:
+            return self.program(symbols, letters)
+        return "\n".join(lines)
+
+    def sweep(self, ahead):
+        mark, word = (">", "right") if ahead else ("<", "left")
+        rnd = self.random
+        body = self.some(2, 2) if rnd.random() < 0.75 else []
+        if rnd.random() < 0.15:
+            body += [f"    if {self.condition()}", f"      {rnd.choice(['left', 'right', 'stop'])}"]
+        return [f"  while not at {mark}", *body, f"    {word}"]
+
+    def some(self, depth, most):
+        lines = []
+        rnd = self.random
+        indent = "  " * depth
+        for _ in range(rnd.randint(1, most)):
+            if depth < 4 and rnd.random() < 0.5:
+                lines += [f"{indent}if {self.condition()}", *self.some(depth + 1, 1)]
+                if rnd.random() < 0.3:
+                    lines += [f"{indent}else", *self.some(depth + 1, 1)]
+            else:
+                lines.append(indent + self.simple())
+        return lines
+
+    def simple(self):
+        rnd = self.random
+        forms = [f"write {rnd.choice(self.letters)}"]
+        forms += ["copy"] * 3 if set(self.symbols) <= set(self.letters) or self.letters == "axz" else forms
+        for name, most in self.mosts.items():
+            forms += [f"set {name} {rnd.randint(0, most)}"] + [f"add {name} {rnd.randint(1, 2)}"] * 2
+        forms += ["do p"] * 2 if self.parts else []
+        return rnd.choice(forms)
+
+    def condition(self):
+        rnd = self.random
+        negation = rnd.choice(["", "", "not "])
+        if self.mosts and rnd.random() < 0.5:
+            name = rnd.choice(list(self.mosts))
+            return f"{negation}{name} = {rnd.randint(0, self.mosts[name])}"
+        signs = f"<{self.symbols}>"
+        places = sorted(rnd.sample(range(len(signs)), rnd.randint(1, 2)))
+        return f"{negation}at {''.join(signs[place] for place in places)}"

@@ -7,9 +7,23 @@ import unittest
 
 PACKAGE = pathlib.Path(__file__).resolve().parent.parent / "fewgoings"
 
-# file: {name: parameters of the function, or of the class when it is called}
+# file: {name: parameters of the function, or of the class when it is called}; a star is in front of
+# those that are passed by name alone.
 FUNCTIONS = {
     "runs": {"run": ["machine", "text"], "configurations": ["program", "text"]},
+    "passes": {"passes": ["machine", "text", "*turns"], "traces": ["machine", "text"], "output_of": ["traces"]},
+    "classes": {
+        "prefixes": ["machine"], "suffixes": ["machine"], "prefix_of": ["machine", "text"],
+        "suffix_of": ["machine", "text"],
+    },
+    "needing": {
+        "needs": ["machine", "*within", "*turns"], "shows_needs": ["machine", "value", "*within", "*turns"],
+        "nearest": ["machine", "text", "most", "*turns"],
+    },
+    "writers": {
+        "is_writer": ["program", "value"], "written": ["program", "writer", "text"], "writer": ["program", "number"],
+        "shows_writer": ["program", "number", "value"], "partings": ["program", "writer"],
+    },
 }
 CLASSES = {
     "programs": {"Program": (["text"], ["text", "symbols", "cells", "parts", "letters"])},
@@ -25,6 +39,11 @@ def defined(file, kind):
 
 def loaded(file, name):
     return getattr(__import__(f"fewgoings.{file}", fromlist=[name]), name)
+
+
+def parameters_of(function):
+    rows = inspect.signature(function).parameters.values()
+    return [f"*{row.name}" if row.kind == row.KEYWORD_ONLY else row.name for row in rows]
 
 
 def assigned_to_self(node):
@@ -43,10 +62,17 @@ class InterfaceTest(unittest.TestCase):
         for file, functions in FUNCTIONS.items():
             for name, parameters in functions.items():
                 self.assertIn(name, defined(file, ast.FunctionDef))
-                self.assertEqual(list(inspect.signature(loaded(file, name)).parameters), parameters)
+                self.assertEqual(parameters_of(loaded(file, name)), parameters)
+
+    def test_values_of_parameters_that_are_left_out(self):
+        for name in ("needs", "shows_needs", "nearest"):
+            parameters = inspect.signature(loaded("needing", name)).parameters
+            self.assertIs(parameters["turns"].default, False)
+            self.assertTrue(name == "nearest" or parameters["within"].default is None)
+        self.assertIs(inspect.signature(loaded("passes", "passes")).parameters["turns"].default, False)
 
     def test_classes(self):
         for file, classes in CLASSES.items():
             for name, (parameters, attributes) in classes.items():
                 self.assertLessEqual(set(attributes), assigned_to_self(defined(file, ast.ClassDef)[name]))
-                self.assertEqual(list(inspect.signature(loaded(file, name)).parameters), parameters)
+                self.assertEqual(parameters_of(loaded(file, name)), parameters)
