@@ -18,7 +18,7 @@ def write_the_same(one, other):
         if one.last_word(left) != other.last_word(second):
             return False
     return all([
-        one.word(left, symbol, right) == other.word(left_of_other, symbol, right_of_other)
+        one.word_at(left, symbol, right) == other.word_at(left_of_other, symbol, right_of_other)
         for left, left_of_other in lefts for right, right_of_other in rights for symbol in one.symbols
     ])
 
@@ -57,7 +57,7 @@ class Half:
         many = len(self.moves)
         return [(one, two) for one in range(many) for two in range(one + 1, many)]
 
-    def splits(self):
+    def splits_of_others(self):
         """For each state of the other side the (symbol, state) that lead to it."""
         splits = [[] for _ in self.others]
         for state, row in enumerate(self.others):
@@ -81,7 +81,7 @@ class Half:
     def leads(self):
         """For each (pair, state of the other side) the (symbol, (pair, state)) from which a step leads to it."""
         leads = {}
-        splits = self.splits()
+        splits = self.splits_of_others()
         for pair in [*self.pairs(), PARTED]:
             for state, row in enumerate(splits):
                 for symbol, rest in row:

@@ -20,7 +20,7 @@ class Heads:
         self.classes = classes
         self.number = number
 
-    def first(self):
+    def first_case(self):
         """The case of the left mark alone."""
         traces = [self.classes.trace(0, "<", suffix) for suffix in range(len(self.classes.suffixes))]
         return 0, tuple([counts_beyond(trace, NO_COUNTS, "below", self.number) for trace in traces])
@@ -42,7 +42,7 @@ class Tails:
         self.classes = classes
         self.number = number
 
-    def first(self):
+    def first_case(self):
         """The case of the right mark alone."""
         traces = [self.classes.trace(prefix, ">", 0) for prefix in range(len(self.classes.prefixes))]
         return 0, tuple([counts_beyond(trace, NO_COUNTS, "above", self.number) for trace in traces])
@@ -121,7 +121,7 @@ class Counting:
         prefix, rows = self.heads[head]
         return self.found_word(prefix, ">", 0, rows[0], NO_COUNTS)
 
-    def word(self, head, symbol, tail):
+    def word_between(self, head, symbol, tail):
         """The word at a symbol between two cases."""
         prefix, head_rows = self.heads[head]
         suffix, tail_rows = self.tails[tail]
@@ -140,7 +140,7 @@ class Counting:
 
 def all_cases(side, symbols):
     """(cases, steps) of Heads or Tails: all cases, and for each, by symbol, the number of the longer one."""
-    cases = [side.first()]
+    cases = [side.first_case()]
     numbers = {cases[0]: 0}
     steps = []
     while len(steps) < len(cases):

@@ -112,7 +112,7 @@ def is_closed(ways, tops):
         if (0, suffix) not in tops or tops[0, suffix] < ways.first_cost(suffix):
             return False
     for pair, top in tops.items():
-        for _, other, cost in ways.steps(pair):
+        for _, other, cost in ways.steps_from(pair):
             if other not in tops or tops[other] < top + cost:
                 return False
     return True

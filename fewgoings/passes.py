@@ -89,14 +89,14 @@ class Unread:
         self.traces = traces
         self.read = [0] * len(traces)
 
-    def word(self, position):
+    def next_word(self, position):
         """The next word of a trace, "" at its end."""
         trace = self.traces[position]
         return trace[self.read[position]] if self.read[position] < len(trace) else ""
 
     def take(self, position):
         """Reads the next word of a trace."""
-        word = self.word(position)
+        word = self.next_word(position)
         self.read[position] += 1
         return word
 
@@ -109,7 +109,7 @@ class Unread:
 
         Reads what the traces of the other positions say of this letter.
         """
-        firsts = [self.word(position) for position in range(len(self.traces))]
+        firsts = [self.next_word(position) for position in range(len(self.traces))]
         begun = [position for position, word in enumerate(firsts) if len(word) == 1]
         if len(begun) != 1:
             return None
@@ -124,14 +124,14 @@ class Unread:
 
         Reads what the traces in between say of this letter. All others said so before.
         """
-        word = self.word(position)
+        word = self.next_word(position)
         if len(word) < 2:
             return position if word else None
         move = 1 if word == "above" else -1
         at = position
-        while 0 <= at < len(self.traces) and self.word(at) == word:
+        while 0 <= at < len(self.traces) and self.next_word(at) == word:
             at += move
-        if not 0 <= at < len(self.traces) or len(self.word(at)) != 1:
+        if not 0 <= at < len(self.traces) or len(self.next_word(at)) != 1:
             return None
         for between in range(position, at, move):
             self.take(between)

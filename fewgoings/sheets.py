@@ -20,7 +20,7 @@ class Sheet:
         self.words = {row[:3]: row[3] for row in words}
         self.last = dict(last)
 
-    def word(self, left, symbol, right):
+    def word_at(self, left, symbol, right):
         """The word at a symbol between two states."""
         return self.words.get((left, symbol, right), "")
 
@@ -41,7 +41,7 @@ class Sheet:
         for symbol in text[::-1]:
             rights.append(self.rights[rights[-1]][symbol])
         rights = rights[::-1]
-        inner = [self.word(*place) for place in list(zip(lefts, text, rights[1:]))]
+        inner = [self.word_at(*place) for place in list(zip(lefts, text, rights[1:]))]
         return [self.first_word(rights[0]), *inner, self.last_word(lefts[-1])]
 
 

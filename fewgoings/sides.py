@@ -27,7 +27,7 @@ class Side:
     def exit_at_mark(self, state, mark):
         """The exit of a mark alone that is entered in a state."""
         move, state, letters = self.states.visit(state, mark)
-        return move, state, self.words.word(letters)
+        return move, state, self.words.class_of(letters)
 
     def longer_row(self, row, sign):
         """The row with one more symbol on the side that the run comes from."""
@@ -43,7 +43,7 @@ class Side:
         while state not in seen:
             seen[state] = True
             move, state, letters = self.states.visit(state, sign)
-            word = self.words.joined(word, self.words.word(letters))
+            word = self.words.joined(word, self.words.class_of(letters))
             if state != ENDLESS and move != -self.out:
                 return move, state, word
             if state == ENDLESS:

@@ -35,7 +35,7 @@ class Ways:
         """The cost of the right mark behind a class of prefixes."""
         return self.cost(prefix, ">", 0)
 
-    def steps(self, pair):
+    def steps_from(self, pair):
         """(symbol, next pair, cost) for each step from a pair."""
         prefix, suffix = pair
         after = self.classes.after[prefix]
@@ -60,6 +60,6 @@ class Ways:
         while found:
             pair = found.pop()
             if pair not in steps:
-                steps[pair] = self.steps(pair)
+                steps[pair] = self.steps_from(pair)
                 found.extend([other for _, other, _ in steps[pair]])
         return steps

@@ -9,7 +9,7 @@ from fewgoings.states import ENDLESS, OVER
 class Flags:
     """The classes of words that no program works on: 0 for the empty word, 1 for all others."""
 
-    def word(self, letters):
+    def class_of(self, letters):
         """The class of a word."""
         return 1 if letters else 0
 
@@ -45,7 +45,7 @@ class Stretches:
             self.exits.append(exits)
         return self.numbers[exits]
 
-    def word(self, letters):
+    def class_of(self, letters):
         """The class of a word."""
         if letters not in self.words:
             number = 0

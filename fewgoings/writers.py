@@ -40,7 +40,7 @@ def writer(program, number):
     tails, rights = least_states(marks_of_tails(counting, symbols), counting.tail_steps, symbols)
     first = [(right, counting.first_word(tail)) for right, tail in enumerate(tails)]
     words = [
-        (left, symbol, right, counting.word(head, symbol, tail))
+        (left, symbol, right, counting.word_between(head, symbol, tail))
         for left, head in enumerate(heads) for symbol in symbols for right, tail in enumerate(tails)
     ]
     last = [(left, counting.last_word(head)) for left, head in enumerate(heads)]
@@ -50,19 +50,21 @@ def writer(program, number):
 def marks_of_heads(counting, symbols):
     """For each case of a prefix all words that are written directly behind it."""
     tails = range(len(counting.tails))
-    return [
-        (counting.last_word(head), tuple([counting.word(head, symbol, tail) for symbol in symbols for tail in tails]))
-        for head in range(len(counting.heads))
-    ]
+    marks = []
+    for head in range(len(counting.heads)):
+        words = [counting.word_between(head, symbol, tail) for symbol in symbols for tail in tails]
+        marks.append((counting.last_word(head), tuple(words)))
+    return marks
 
 
 def marks_of_tails(counting, symbols):
     """For each case of a suffix all words that are written directly in front of it."""
     heads = range(len(counting.heads))
-    return [
-        (counting.first_word(tail), tuple([counting.word(head, symbol, tail) for symbol in symbols for head in heads]))
-        for tail in range(len(counting.tails))
-    ]
+    marks = []
+    for tail in range(len(counting.tails)):
+        words = [counting.word_between(head, symbol, tail) for symbol in symbols for head in heads]
+        marks.append((counting.first_word(tail), tuple(words)))
+    return marks
 
 
 def not_empty(rows):
