@@ -84,7 +84,8 @@ def all_rows(sides, symbols):
         level = list(range(len(longer), len(texts)))
         longer.extend([{} for _ in level])
         # The least texts of one length are met in text order only if all of them are sorted first.
-        for text, before, symbol in sorted(longer_texts(sides[0].out, texts, level, symbols)):
+        longer_ones = sorted(longer_texts(sides[0].out, texts, level, symbols))
+        for text, before, symbol in longer_ones:
             row = tuple([side.longer_row(old, symbol) for side, old in zip(sides, rows[before])])
             if row not in numbers:
                 numbers[row] = len(texts)

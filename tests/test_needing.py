@@ -169,6 +169,18 @@ class NeedsTest(unittest.TestCase):
         self.assertIsNone(needs(ENDS_WITHOUT_B, within=main("while not at b>", "  right", "while at >", "  write x")))
         self.assertIsNone(needs(Chain(COPY, NEVER)))
 
+    def test_runs_that_go_to_and_fro_for_ever(self):
+        steps = main("while not at b", "  right", "  left")
+        sweeps = main("right", "while at a", "  while not at >", "    right", "  while not at <", "    left", "  right")
+        for other in (steps, main("while not at b>", "  right", "  left")):
+            self.assertIsNone(needs(other))
+            self.assertIsNone(needs(Chain(COPY, other)))
+        for machine in (sweeps, Chain(COPY, sweeps), Chain(sweeps, COPY), Chain(Program(TURN), sweeps)):
+            for turns in (False, True):
+                self.assertEqual(self.check(machine, None, turns)[:3], ("needs", 0, ""))
+        self.assertEqual(nearest(Chain(COPY, sweeps), "aab", 0), (1, "bab"))
+        self.assertEqual(nearest(Chain(Program(TURN), sweeps), "aba", 0), (1, "abb"))
+
     def test_none_and_one(self):
         self.assertEqual(needs(SILENT)[:3], ("needs", 0, ""))
         self.assertEqual(needs(COPY)[:3], ("needs", 1, "a"))
@@ -199,6 +211,19 @@ class NeedsTest(unittest.TestCase):
         for machine, within in [(turn, short), (turn, only_b), (Program(TWICE), ODD_LENGTH), (Chain(turn, turn), only_b)]:
             for turns in (False, True):
                 self.check(machine, within, turns)
+
+    def test_a_ring_of_several_symbols(self):
+        turn = Program(TURN.replace("symbols ab", "symbols abc"))
+        # Ends on the texts abcabc.. and their beginnings alone.
+        loops = [line for at, others in enumerate(["bc", "ac", "ab"])
+                 for line in (f"  if n = {at}", f"    while at {others}", "      write x")]
+        within = main("right", "while not at >", *loops, "  add n 1", "  right", head=["cell n 2"], symbols="abc")
+        for machine in (turn, Chain(turn, Program(TURN.replace("symbols ab", "symbols abcd")))):
+            found = self.check(machine, within)
+            if machine == turn:
+                self.assertEqual((found[0], sorted(found[2])), ("endless", ["a", "b", "c"]))
+        ahead, ring, behind = needs(turn, within=within)[1:]
+        self.assertEqual(ahead + ring + behind, ("abc" * 9)[:len(ahead + ring + behind)])
 
     def test_other_symbols(self):
         turn = Program(TURN)
@@ -379,6 +404,20 @@ class ShowsNeedsTest(unittest.TestCase):
         self.assertTrue(shows_needs(program, ("needs", 0, "", table), within=within))
         more = tuple(sorted([*table, ("", "b", 0)]))
         self.assertFalse(shows_needs(program, ("needs", 0, "", more), within=within))
+        # The right mark of a text is looked at only where nothing follows: here on texts of odd length.
+        even = main("while not at >", "  add n 1", "  right", "if n = 1", "  write x", head=["cell n 1"])
+        found = needs(even, within=ODD_LENGTH)
+        self.assertEqual(found[:3], ("needs", 0, "a"))
+        self.assertTrue(shows_needs(even, found, within=ODD_LENGTH))
+        self.assertTrue(Judge(even, ODD_LENGTH, False).shows(found))
+        # Here it is written at the right mark alone.
+        program = main("while not at >", "  if at b", "    set n 1", "  right", "if n = 1", "  write x", head=["cell n 1"])
+        _, many, _, table = needs(program, within=within)
+        self.assertEqual((many, table), (0, (("", "", 0),)))
+        more = (("", "", 0), ("b", "", 0))
+        self.assertFalse(shows_needs(program, ("needs", 0, "", more), within=within))
+        self.assertFalse(Judge(program, within, False).is_table(more, 0))
+        self.assertTrue(shows_needs(main("while not at >", "  right"), ("needs", 0, "", more), within=within))
 
     def test_rows_of_other_kinds(self):
         table = (("", "", 0), ("", "a", 0), ("a", "", 0), ("a", "a", 0))
@@ -398,6 +437,12 @@ class ShowsNeedsTest(unittest.TestCase):
         for text in ("c", None, 0, ("a",), ["a"], "a ", "<"):
             self.assertFalse(shows_needs(COPY, ("needs", 1, text, table)), text)
         self.assertFalse(shows_needs(SILENT, ("needs", False, "", (("", "", 0),))))
+
+    def test_other_words_in_front(self):
+        table = needs(COPY)[3]
+        for word in ("need", "Needs", "endless", "", None, 0, ("needs",), ["needs"]):
+            self.assertFalse(shows_needs(COPY, (word, 1, "a", table)), word)
+            self.assertFalse(shows_needs(Program(TURN), (word if word != "endless" else "ring", "a", "a", "a")), word)
 
     def test_rings(self):
         turn = Program(TURN)

@@ -253,6 +253,17 @@ class OutputOfTest(unittest.TestCase):
             for value in [((word,), ("below",)), (("a",), (word,)), (("a",), ("below", word)), ((), (), (word,))]:
                 self.assertIsNone(output_of(value), value)
 
+    def test_words_that_lead_out_of_the_text(self):
+        for value in [(("a", "below"), ("below", "b")), (("a", "below"), ("below", "below")),
+                      (("above", "b"), ("a", "above")), (("a", "below", "b"), ("below",), ("below", "c"))]:
+            self.assertIsNone(output_of(value))
+
+    def test_other_words_in_the_place_of_below_and_above(self):
+        self.assertEqual(output_of((("x", "above", "c"), ("below", "a", "below"))), (("x", 0), ("a", 1), ("c", 0)))
+        for word in ["ab", "under", "", "x"]:
+            self.assertIsNone(output_of((("x", "above", "c"), ("below", "a", word))))
+            self.assertIsNone(output_of((("x", word, "c"), ("below", "a", "below"))))
+
     def test_any_value(self):
         for value in ["", "a", "ab", "below", ("a", "b"), ("above", "below"), ("a", ()), ((), "a"), *NO_STRINGS]:
             kept = copy.deepcopy(value)

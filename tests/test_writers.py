@@ -384,6 +384,10 @@ def spoiled_forms():
                  list(words), tuple(map(list, words)), (words[0][:3],), (words[0] + ("x",),), ("0a1p",), "", None, 0, {},
                  ((),), ((1, "a", 2, "p"), (1, "a", 0, "r"))]:
         yield lefts, rights, first, rows, last
+    for moves in ((), ((),)):
+        yield moves, ((0, 0),), (), (), ()
+        yield ((0, 0),), moves, (), (), ()
+        yield moves, moves, (), (), ()
     yield GOOD[:4]
     yield GOOD + ((),)
     yield list(GOOD)

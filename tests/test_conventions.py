@@ -1,0 +1,76 @@
+"""Section 2, as far as it speaks of all functions alike."""
+
+import copy
+import unittest
+
+from fewgoings.chains import Chain
+from fewgoings.classes import prefix_of, prefixes, suffix_of, suffixes
+from fewgoings.errors import PassError
+from fewgoings.needing import nearest, needs, shows_needs
+from fewgoings.passes import output_of, passes, traces
+from fewgoings.programs import Program
+from fewgoings.runs import run
+from fewgoings.writers import is_writer, partings, shows_writer, writer, written
+from tests.samples import LAST, MANY_PREFIXES, THREE_BACK, TURN, TWICE
+
+
+def calls_on(machine, within):
+    """Calls of the functions that take any machine."""
+    text = machine.symbols * 2
+    return [
+        lambda: run(machine, text), lambda: passes(machine, text), lambda: passes(machine, text, turns=True),
+        lambda: traces(machine, text), lambda: output_of(traces(machine, text)), lambda: prefixes(machine),
+        lambda: suffixes(machine), lambda: prefix_of(machine, text), lambda: suffix_of(machine, text),
+        lambda: needs(machine), lambda: needs(machine, within=within, turns=True),
+        lambda: shows_needs(machine, needs(machine, within=within), within=within), lambda: shows_needs(machine, [machine]),
+        lambda: nearest(machine, text, 1), lambda: nearest(machine, text, 1, turns=True), lambda: nearest(machine, text, None),
+    ]
+
+
+def calls_on_program(program):
+    """Calls of the functions that take a program alone."""
+    text = program.symbols * 2
+    return [
+        lambda: writer(program, 1), lambda: writer(program, 9), lambda: writer(program, 0),
+        lambda: written(program, writer(program, 1), text), lambda: written(program, writer(program, 1), 5),
+        lambda: is_writer(program, writer(program, 2)), lambda: is_writer(program, text),
+        lambda: shows_writer(program, 2, writer(program, 2)), lambda: partings(program, writer(program, 2)),
+        lambda: partings(program, ()),
+    ]
+
+
+def outcome(call):
+    try:
+        return call()
+    except PassError as error:
+        return error.__class__, error.value
+
+
+class ConventionsTest(unittest.TestCase):
+    def test_equal_calls_give_equal_results_and_nothing_is_changed(self):
+        programs = [Program(text) for text in (TURN, TWICE, LAST, THREE_BACK, MANY_PREFIXES)]
+        machines = [*programs, Chain(programs[0], programs[1])]
+        for machine in machines:
+            within = copy.deepcopy(machine)
+            kept = copy.deepcopy(machine)
+            calls = calls_on(machine, within) + (calls_on_program(machine) if isinstance(machine, Program) else [])
+            first = [outcome(call) for call in calls]
+            again = [outcome(call) for call in reversed(calls)]
+            self.assertEqual(first, again[::-1])
+            for one in (machine, within):
+                self.assertEqual(one, kept)
+                for name in set(vars(kept)) - {"statements", "one", "other"}:
+                    self.assertEqual(getattr(one, name), getattr(kept, name))
+
+    def test_returned_sequences_are_tuples(self):
+        def check(value):
+            self.assertNotIsInstance(value, (list, dict, set))
+            for part in value if isinstance(value, tuple) else ():
+                check(part)
+
+        turn, twice = Program(TURN), Program(TWICE)
+        for value in [passes(twice, "ab"), traces(twice, "ab"), output_of(traces(twice, "ab")), prefixes(turn),
+                      suffixes(turn), needs(turn), needs(twice), nearest(twice, "ab", 2), writer(turn, 2),
+                      written(turn, writer(turn, 1), "ab"), partings(turn, writer(turn, 2))]:
+            self.assertIsInstance(value, tuple)
+            check(value)
