@@ -2,7 +2,7 @@
 
 from fewgoings.chains import Chain
 from fewgoings.sides import Side
-from fewgoings.states import ENDLESS, OVER, States
+from fewgoings.states import OVER, States
 from fewgoings.tracing import trace_of
 from fewgoings.words import Flags, Stretches
 

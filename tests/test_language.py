@@ -108,6 +108,11 @@ class LanguageTest(unittest.TestCase):
                 own += [part.targets[0].id for part in source.body if isinstance(part, ast.Assign)]
                 self.assertLessEqual(set(names), set(own), (path, node.module))
 
+    def test_imports_are_used(self):
+        for path, tree in self.trees.items():
+            names = {alias.name for node in nodes(tree, ast.ImportFrom) for alias in node.names}
+            self.assertLessEqual(names, {node.id for node in nodes(tree, ast.Name)}, path)
+
     def test_no_two_files_import_from_each_other(self):
         follows = {
             path.stem: {node.module.split(".")[1] for node in nodes(tree, ast.ImportFrom)
