@@ -2,23 +2,21 @@
 
 from fewgoings.errors import TooMany
 
-MOST_STATES = 40
 
-
-def least_states(marks, steps, symbols):
+def least_states(marks, steps, symbols, most):
     """(members, moves): the least machine that tells apart the states of another one that differ.
 
     Two states differ if their marks do or if those do to which the same symbols lead. steps has
     for each state, by symbol, the next one. The states of the least machine are numbered as they
     are met from state 0 on; members has one of the old states for each, and moves a tuple with
-    the next state for each symbol. TooMany if there are more than forty.
+    the next state for each symbol. TooMany if there are more than most.
     """
     blocks = numbered(marks)
     many = 0
     while many < max(blocks):
         many = max(blocks)
-        if many >= MOST_STATES:
-            raise TooMany(MOST_STATES)
+        if many >= most:
+            raise TooMany(most)
         blocks = numbered([
             (block, tuple([blocks[row[symbol]] for symbol in symbols]))
             for block, row in zip(blocks, steps)

@@ -32,6 +32,26 @@ class Sheet:
         """The word at the right mark."""
         return self.last.get(left, "")
 
+    def left_of(self, text):
+        """The left state that a text leads to."""
+        left = 0
+        for symbol in text:
+            left = self.lefts[left][symbol]
+        return left
+
+    def right_of(self, text):
+        """The right state that a text leads to."""
+        right = 0
+        for symbol in text[::-1]:
+            right = self.rights[right][symbol]
+        return right
+
+    def end_word(self, prefix, right):
+        """The word at the last position of a prefix, the left mark for "", in front of a right state."""
+        if prefix == "":
+            return self.first_word(right)
+        return self.word_at(self.left_of(prefix[:-1]), prefix[-1], right)
+
     def words_on(self, text):
         """The words at all positions of a text."""
         lefts = [0]

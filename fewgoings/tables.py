@@ -18,8 +18,10 @@ class Classes:
     def __init__(self, machines):
         self.symbols = machines[0].symbols
         self.works = [Works(machine) for machine in machines]
-        self.prefixes, self.heads, self.after = all_rows([works.heads for works in self.works], self.symbols)
-        self.suffixes, self.tails, self.before = all_rows([works.tails for works in self.works], self.symbols)
+        heads = [works.heads for works in self.works]
+        tails = [works.tails for works in self.works]
+        self.prefixes, self.heads, self.after = all_rows(heads, self.symbols, MOST_CLASSES)
+        self.suffixes, self.tails, self.before = all_rows(tails, self.symbols, MOST_CLASSES)
         self.splits = [[] for _ in self.suffixes]
         for rest, row in enumerate(self.before):
             for symbol in self.symbols:
@@ -71,10 +73,11 @@ class Classes:
         return self.traces[key]
 
 
-def all_rows(sides, symbols):
+def all_rows(sides, symbols, most):
     """(texts, rows, longer): the least text of each class, in text order, and its rows on all sides.
 
-    longer has for each class, by symbol, the class of the text with one more symbol.
+    longer has for each class, by symbol, the class of the text with one more symbol. TooMany if
+    there are more than most classes.
     """
     texts = [""]
     rows = [tuple([side.first_row() for side in sides])]
@@ -92,8 +95,8 @@ def all_rows(sides, symbols):
                 texts.append(text)
                 rows.append(row)
             longer[before][symbol] = numbers[row]
-            if len(texts) > MOST_CLASSES:
-                raise TooMany(MOST_CLASSES)
+            if len(texts) > most:
+                raise TooMany(most)
     return texts, rows, longer
 
 

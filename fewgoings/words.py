@@ -1,6 +1,6 @@
 """What a program writes meanwhile, as far as it matters for what comes after.
 
-Flags and Stretches sort words into classes, which have numbers; the empty word is in class 0.
+Flags, Parts and Stretches sort words into classes, which have numbers; the empty word is in class 0.
 """
 
 from fewgoings.states import ENDLESS, OVER
@@ -16,6 +16,27 @@ class Flags:
     def joined(self, one, other):
         """The class of a word of one class with a word of another one behind it."""
         return one | other
+
+
+class Parts:
+    """The classes of words for one word: one for each of its parts, and the last one for all others."""
+
+    def __init__(self, word):
+        self.parts = [""]
+        for start in range(len(word)):
+            for end in range(start + 1, len(word) + 1):
+                if word[start:end] not in self.parts:
+                    self.parts.append(word[start:end])
+
+    def class_of(self, letters):
+        """The class of a word."""
+        return self.parts.index(letters) if letters in self.parts else len(self.parts)
+
+    def joined(self, one, other):
+        """The class of a word of one class with a word of another one behind it."""
+        if max(one, other) == len(self.parts):
+            return len(self.parts)
+        return self.class_of(self.parts[one] + self.parts[other])
 
 
 class Stretches:

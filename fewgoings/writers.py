@@ -9,6 +9,7 @@ from fewgoings.tables import Classes
 from fewgoings.texts import check_text, is_number
 
 MOST_NUMBER = 9
+MOST_STATES = 40
 
 
 def is_writer(program, value):
@@ -36,8 +37,8 @@ def writer(program, number):
         raise BadPass(number)
     counting = Counting(Classes([program]), number)
     symbols = program.symbols
-    heads, lefts = least_states(marks_of_heads(counting, symbols), counting.head_steps, symbols)
-    tails, rights = least_states(marks_of_tails(counting, symbols), counting.tail_steps, symbols)
+    heads, lefts = least_states(marks_of_heads(counting, symbols), counting.head_steps, symbols, MOST_STATES)
+    tails, rights = least_states(marks_of_tails(counting, symbols), counting.tail_steps, symbols, MOST_STATES)
     first = [(right, counting.first_word(tail)) for right, tail in enumerate(tails)]
     words = [
         (left, symbol, right, counting.word_between(head, symbol, tail))

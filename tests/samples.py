@@ -299,3 +299,38 @@ main
     right
   while not at >
     right"""
+
+NEXT = """symbols ab
+cell n 1
+main
+  right
+  while not at >
+    right
+    if at a
+      set n 1
+    left
+    if n = 1
+      write x
+    set n 0
+    right"""
+
+# 200 classes of prefixes for the word bbaazb, 201 for abbyaa.
+TWO_HUNDRED = """symbols abyz
+cell n 2
+main
+  while not at >
+    if at <z
+      set n 1
+    right
+  while not at <
+    copy
+    if n = 0
+      left
+    left
+  while not at >
+    set n 0
+    right
+  while not at <
+    if not at <
+      right
+    left"""

@@ -5,11 +5,15 @@ import unittest
 
 from fewgoings.chains import Chain
 from fewgoings.classes import prefix_of, prefixes, suffix_of, suffixes
+from fewgoings.enders import count, ender, leading
 from fewgoings.errors import PassError
 from fewgoings.needing import nearest, needs, shows_needs
 from fewgoings.passes import output_of, passes, traces
 from fewgoings.programs import Program
+from fewgoings.readers import Reader
 from fewgoings.runs import run
+from fewgoings.sames import lean, same, shows_same
+from fewgoings.sights import lookahead, shows_lookahead
 from fewgoings.writers import is_writer, partings, shows_writer, writer, written
 from tests.samples import LAST, MANY_PREFIXES, THREE_BACK, TURN, TWICE
 
@@ -24,6 +28,9 @@ def calls_on(machine, within):
         lambda: needs(machine), lambda: needs(machine, within=within, turns=True),
         lambda: shows_needs(machine, needs(machine, within=within), within=within), lambda: shows_needs(machine, [machine]),
         lambda: nearest(machine, text, 1), lambda: nearest(machine, text, 1, turns=True), lambda: nearest(machine, text, None),
+        lambda: same(machine, within), lambda: same(within, machine), lambda: shows_same(machine, within, same(machine, within)),
+        lambda: shows_same(machine, within, [machine]), lambda: ender(machine), lambda: count(machine, "done", 50),
+        lambda: count(machine, "ever", True), lambda: count(machine, machine, 5),
     ]
 
 
@@ -35,8 +42,19 @@ def calls_on_program(program):
         lambda: written(program, writer(program, 1), text), lambda: written(program, writer(program, 1), 5),
         lambda: is_writer(program, writer(program, 2)), lambda: is_writer(program, text),
         lambda: shows_writer(program, 2, writer(program, 2)), lambda: partings(program, writer(program, 2)),
-        lambda: partings(program, ()),
+        lambda: partings(program, ()), lambda: lookahead(program, 1), lambda: lookahead(program, 3),
+        lambda: lookahead(program, "1"), lambda: shows_lookahead(program, 1, lookahead(program, 1)),
+        lambda: shows_lookahead(program, 2, [program]), lambda: lean(program), lambda: leading(program, "ab"),
+        lambda: leading(program, "x"), lambda: leading(program, 5), lambda: read_through(program, 1, text),
+        lambda: read_through(program, 2, text + "?"),
     ]
+
+
+def read_through(program, number, text):
+    """All that a reader tells of a text."""
+    reader = Reader(program, number)
+    rows = [reader.told, *[(reader.feed(symbol), reader.told, reader.held) for symbol in text]]
+    return rows + [reader.move(program, number), reader.close(), reader.told, reader.text]
 
 
 def outcome(call):
@@ -68,9 +86,13 @@ class ConventionsTest(unittest.TestCase):
             for part in value if isinstance(value, tuple) else ():
                 check(part)
 
-        turn, twice = Program(TURN), Program(TWICE)
+        turn, twice, last = Program(TURN), Program(TWICE), Program(LAST)
+        reader = Reader(turn, 2)
+        fed = [reader.feed("a"), reader.feed("b"), reader.told, reader.held, reader.move(turn, 2), reader.close(), reader.told]
         for value in [passes(twice, "ab"), traces(twice, "ab"), output_of(traces(twice, "ab")), prefixes(turn),
                       suffixes(turn), needs(turn), needs(twice), nearest(twice, "ab", 2), writer(turn, 2),
-                      written(turn, writer(turn, 1), "ab"), partings(turn, writer(turn, 2))]:
+                      written(turn, writer(turn, 1), "ab"), partings(turn, writer(turn, 2)), lookahead(turn, 1),
+                      lookahead(last, 1), lookahead(last, 2), same(turn, turn), same(turn, twice), lean(turn), ender(turn),
+                      leading(turn, "ab"), *fed]:
             self.assertIsInstance(value, tuple)
             check(value)

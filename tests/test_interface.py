@@ -24,11 +24,21 @@ FUNCTIONS = {
         "is_writer": ["program", "value"], "written": ["program", "writer", "text"], "writer": ["program", "number"],
         "shows_writer": ["program", "number", "value"], "partings": ["program", "writer"],
     },
+    "sights": {"lookahead": ["program", "number"], "shows_lookahead": ["program", "number", "value"]},
+    "sames": {"same": ["one", "other"], "shows_same": ["one", "other", "value"], "lean": ["program"]},
+    "enders": {
+        "ender": ["machine"], "count": ["machine", "outcome", "length"], "leading": ["program", "word"],
+    },
 }
 CLASSES = {
     "programs": {"Program": (["text"], ["text", "symbols", "cells", "parts", "letters"])},
     "chains": {"Chain": (["one", "other"], ["one", "other", "symbols"])},
     "errors": {"PassError": (["value"], ["value"])},
+    "readers": {"Reader": (["program", "number"], ["text", "is_closed", "told", "held"])},
+}
+# The methods that are defined in the body of the class itself, with their parameters.
+METHODS = {
+    "readers": {"Reader": {"feed": ["symbol"], "close": [], "move": ["program", "number"]}},
 }
 
 
@@ -76,3 +86,11 @@ class InterfaceTest(unittest.TestCase):
             for name, (parameters, attributes) in classes.items():
                 self.assertLessEqual(set(attributes), assigned_to_self(defined(file, ast.ClassDef)[name]))
                 self.assertEqual(parameters_of(loaded(file, name)), parameters)
+
+    def test_methods(self):
+        for file, classes in METHODS.items():
+            for name, methods in classes.items():
+                own = {part.name for part in defined(file, ast.ClassDef)[name].body if isinstance(part, ast.FunctionDef)}
+                for method, parameters in methods.items():
+                    self.assertIn(method, own)
+                    self.assertEqual(parameters_of(getattr(loaded(file, name), method))[1:], parameters)
