@@ -1,6 +1,6 @@
 """Texts that programs work on, words, and integers."""
 
-from fewgoings.errors import BadText
+from fewgoings.errors import BadPosition, BadText
 
 ALPHABET = "abcdefghijklmnopqrstuvwxyz"
 
@@ -34,3 +34,9 @@ def is_of_letters(word):
 def is_number(value):
     """Whether a value is an integer, which a bool is not."""
     return isinstance(value, int) and not isinstance(value, bool)
+
+
+def check_within(position, first, last):
+    """BadPosition unless a value is an integer from first to last."""
+    if not is_number(position) or not first <= position <= last:
+        raise BadPosition(position)

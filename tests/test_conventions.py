@@ -5,9 +5,13 @@ import unittest
 
 from fewgoings.chains import Chain
 from fewgoings.classes import prefix_of, prefixes, suffix_of, suffixes
+from fewgoings.desk import Desk
 from fewgoings.enders import count, ender, leading
 from fewgoings.errors import PassError
+from fewgoings.fars import far_many, far_outcome, far_passes, far_word, far_words, far_written
+from fewgoings.journals import read_far, read_journal, recover, show_far, stored
 from fewgoings.needing import nearest, needs, shows_needs
+from fewgoings.pages import Page
 from fewgoings.passes import output_of, passes, traces
 from fewgoings.programs import Program
 from fewgoings.readers import Reader
@@ -31,6 +35,8 @@ def calls_on(machine, within):
         lambda: same(machine, within), lambda: same(within, machine), lambda: shows_same(machine, within, same(machine, within)),
         lambda: shows_same(machine, within, [machine]), lambda: ender(machine), lambda: count(machine, "done", 50),
         lambda: count(machine, "ever", True), lambda: count(machine, machine, 5),
+        lambda: far_outcome(machine, ((text, 10 ** 9),)), lambda: far_many(machine, ((text, 10 ** 9),)),
+        lambda: far_passes(machine, ((text, 10 ** 9),)), lambda: far_passes(machine, ((text, 10 ** 9),), turns=True),
     ]
 
 
@@ -46,8 +52,21 @@ def calls_on_program(program):
         lambda: lookahead(program, "1"), lambda: shows_lookahead(program, 1, lookahead(program, 1)),
         lambda: shows_lookahead(program, 2, [program]), lambda: lean(program), lambda: leading(program, "ab"),
         lambda: leading(program, "x"), lambda: leading(program, 5), lambda: read_through(program, 1, text),
-        lambda: read_through(program, 2, text + "?"),
+        lambda: read_through(program, 2, text + "?"), lambda: far_written(program, ((text, 10 ** 9),), 10 ** 9),
+        lambda: far_words(program, ((text, 10 ** 9),), 10 ** 9), lambda: far_words(program, ((text, 5),), -1),
+        lambda: far_word(program, writer(program, 1), ((text, 10 ** 9),), 10 ** 9), lambda: asked_of_page(program, text),
     ]
+
+
+def asked_of_page(program, text):
+    """Some of what a page tells after some edits."""
+    page = Page(program)
+    numbers = [page.put(1, ((text, 10 ** 9),)), page.put(5, ((text, 3),))]
+    page.strike(2, 3)
+    found = [page.length, page.slices, page.outcome, page.many, page.passes, page.turns, page.words((0, 0)), page.touched((0, 0))]
+    other, lost = recover(stored(page))
+    return [numbers, found, page.journal, stored(page), page == other, page == read_journal(page.journal), lost,
+            Desk(page.journal).say("passes"), show_far(read_far("ab*3"))]
 
 
 def read_through(program, number, text):
@@ -89,10 +108,14 @@ class ConventionsTest(unittest.TestCase):
         turn, twice, last = Program(TURN), Program(TWICE), Program(LAST)
         reader = Reader(turn, 2)
         fed = [reader.feed("a"), reader.feed("b"), reader.told, reader.held, reader.move(turn, 2), reader.close(), reader.told]
+        page = Page(twice)
+        page.put(1, (("ab", 3),))
+        asked = [page.slices, page.identity(1), page.written(0), page.words((0, 0)), page.journal, read_far("(ab*3)*4"),
+                 far_words(twice, (("ab", 3),), 2), far_written(twice, (("ab", 3),), 2), recover(stored(page))]
         for value in [passes(twice, "ab"), traces(twice, "ab"), output_of(traces(twice, "ab")), prefixes(turn),
                       suffixes(turn), needs(turn), needs(twice), nearest(twice, "ab", 2), writer(turn, 2),
                       written(turn, writer(turn, 1), "ab"), partings(turn, writer(turn, 2)), lookahead(turn, 1),
                       lookahead(last, 1), lookahead(last, 2), same(turn, turn), same(turn, twice), lean(turn), ender(turn),
-                      leading(turn, "ab"), *fed]:
+                      leading(turn, "ab"), *fed, *asked]:
             self.assertIsInstance(value, tuple)
             check(value)

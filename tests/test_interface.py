@@ -29,16 +29,34 @@ FUNCTIONS = {
     "enders": {
         "ender": ["machine"], "count": ["machine", "outcome", "length"], "leading": ["program", "word"],
     },
+    "fars": {
+        "far_length": ["far"], "far_outcome": ["machine", "far"], "far_many": ["machine", "far"],
+        "far_passes": ["machine", "far", "*turns"], "far_written": ["program", "far", "index"],
+        "far_words": ["program", "far", "position"], "far_word": ["program", "writer", "far", "position"],
+    },
+    "journals": {
+        "show_far": ["far"], "read_far": ["text"], "read_journal": ["lines"], "stored": ["page"], "recover": ["text"],
+    },
 }
 CLASSES = {
     "programs": {"Program": (["text"], ["text", "symbols", "cells", "parts", "letters"])},
     "chains": {"Chain": (["one", "other"], ["one", "other", "symbols"])},
     "errors": {"PassError": (["value"], ["value"])},
     "readers": {"Reader": (["program", "number"], ["text", "is_closed", "told", "held"])},
+    "pages": {"Page": (["program"], [
+        "program", "length", "slices", "outcome", "many", "passes", "turns", "journal"])},
+    "desk": {"Desk": (["lines"], ["page"])},
 }
 # The methods that are defined in the body of the class itself, with their parameters.
 METHODS = {
     "readers": {"Reader": {"feed": ["symbol"], "close": [], "move": ["program", "number"]}},
+    "pages": {"Page": {
+        "put": ["position", "far"], "strike": ["first", "last"], "move": ["first", "last", "position"], "reprogram": ["text"],
+        "undo": [], "redo": [], "symbol": ["position"], "identity": ["position"], "position": ["identity"],
+        "written": ["index"], "words": ["identity"], "touched": ["identity"], "trial": [], "tried": ["look", "*keep"],
+        "keep": [], "copy": [],
+    }},
+    "desk": {"Desk": {"say": ["line"]}},
 }
 
 
@@ -80,6 +98,8 @@ class InterfaceTest(unittest.TestCase):
             self.assertIs(parameters["turns"].default, False)
             self.assertTrue(name == "nearest" or parameters["within"].default is None)
         self.assertIs(inspect.signature(loaded("passes", "passes")).parameters["turns"].default, False)
+        self.assertIs(inspect.signature(loaded("fars", "far_passes")).parameters["turns"].default, False)
+        self.assertIs(inspect.signature(loaded("pages", "Page").tried).parameters["keep"].default, False)
 
     def test_classes(self):
         for file, classes in CLASSES.items():

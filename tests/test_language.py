@@ -92,7 +92,8 @@ class LanguageTest(unittest.TestCase):
                 self.assertIsInstance(
                     node, (ast.Expr, ast.ImportFrom, ast.Assign, ast.FunctionDef, ast.ClassDef), path)
                 if isinstance(node, ast.Assign):
-                    ast.literal_eval(node.value)
+                    self.assertEqual(nodes(node.value, ast.Name, ast.Call), [], path)
+                    eval(ast.unparse(node.value), {"__builtins__": {}})
 
     def test_imports_name_the_file_that_defines(self):
         for path, tree in self.trees.items():
