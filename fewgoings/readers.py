@@ -27,7 +27,9 @@ class Reader:
         if not rows:
             return
         fresh = dict(rows)
-        self.held = tuple([position for position in self.held if position not in fresh])
+        # Else none of them was held, and a long tuple need not be made anew.
+        if self.held and self.held[-1] >= rows[0][0]:
+            self.held = tuple([position for position in self.held if position not in fresh])
         told = (*self.told, *rows)
         self.told = told if not self.told or self.told[-1] < rows[0] else tuple(sorted(told))
 
@@ -38,8 +40,9 @@ class Reader:
         if not isinstance(symbol, str) or len(symbol) != 1 or symbol not in self.symbols:
             raise BadSymbol(symbol)
         self.text += symbol
-        self.held = (*self.held, len(self.text))
         rows = self.follower.feed(symbol)
+        if not rows or rows[-1][0] < len(self.text):
+            self.held = (*self.held, len(self.text))
         self.tell(rows)
         return tuple(rows)
 

@@ -141,7 +141,8 @@ def are_texts(program, value, many):
 
 def agree(one, other, many):
     """Whether two suffixes agree in so many symbols."""
-    return one == other or (min(len(one), len(other)) >= many and one[:many] == other[:many])
+    # Where one of them has fewer symbols, these are the same only if both suffixes are.
+    return one[:many] == other[:many]
 
 
 def differ(sheet, prefix, one, other):

@@ -22,20 +22,18 @@ class Walk:
     def way(self, block, move, state):
         """The way through a block that is entered by a move in a state."""
         key = (block, move, state)
-        if key not in self.ways:
-            self.ways[key] = self.found_way(block, move, state)
-        return self.ways[key]
-
-    def found_way(self, block, move, state):
-        """What way returns, out of the ways through the parts."""
+        if key in self.ways:
+            return self.ways[key]
         if block.sign:
             move, state, letters = self.states.visit(state, block.sign)
-            return move, state, at_one_place(len(letters))
-        tally = at_one_place(0)
-        stages, move, state = self.stages(block, move, state)
-        for offset, _, (_, _, more) in stages:
-            tally = followed(tally, more, offset)
-        return move, state, tally
+            tally = at_one_place(len(letters))
+        else:
+            stages, move, state = self.stages(block, move, state)
+            tally = at_one_place(0)
+            for offset, _, (_, _, more) in stages:
+                tally = followed(tally, more, offset)
+        self.ways[key] = (move, state, tally)
+        return self.ways[key]
 
     def stages(self, block, move, state):
         """(stages, move, state): how a run goes through the parts of a block, and how it leaves it.
@@ -92,17 +90,17 @@ class Middle:
 
     def block(self, place):
         """The block of what is written in (block, move, state), at the positions in that block."""
-        if place not in self.blocks:
-            self.blocks[place] = self.found_block(place)
-        return self.blocks[place]
-
-    def found_block(self, place):
-        """What block returns, out of the blocks of the parts."""
+        if place in self.blocks:
+            return self.blocks[place]
+        parts = []
         if place[0].sign:
-            return Block("", tuple([(0, single(letter)) for letter in self.walk.letters_at(place)]), 0)
-        stages = self.walk.stages(*place)[0]
-        parts = [(offset, self.block(inner)) for offset, inner, way in stages if way[2].many > 0]
-        return Block("", tuple(parts), 0)
+            parts = [(0, single(letter)) for letter in self.walk.letters_at(place)]
+        else:
+            for offset, inner, way in self.walk.stages(*place)[0]:
+                if way[2].many > 0:
+                    parts.append((offset, self.block(inner)))
+        self.blocks[place] = Block("", tuple(parts), 0)
+        return self.blocks[place]
 
 
 def words_at(walk, block, position):

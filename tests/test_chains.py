@@ -7,15 +7,10 @@ from fewgoings.chains import Chain
 from fewgoings.errors import BadText, OtherSymbols
 from fewgoings.programs import Program
 from fewgoings.runs import run
+from tests.machines import COPY, main
 from tests.randoms import Maker
-from tests.samples import LAST, LOOP_AT_B, NO_STRINGS, TURN, TWICE, program_text
+from tests.samples import LAST, LOOP_AT_B, NO_STRINGS, TURN, TWICE
 
-
-def main(*body, head=(), symbols="ab"):
-    return Program(program_text(*body, head=head, symbols=symbols))
-
-
-COPY = main("while not at >", "  copy", "  right")
 MARKS = main("write l", "while not at >", "  right", "write r", symbols="abc")
 
 

@@ -11,19 +11,12 @@ from fewgoings.passes import traces
 from fewgoings.programs import Program
 from fewgoings.runs import run
 from tests.brute import Keys, all_texts, in_text_order, least_by
+from tests.machines import chain_of, main
 from tests.randoms import Maker, Sweeper
 from tests.samples import (
     LAST, LOOP_AT_B, MANY_PREFIXES, NO_STRINGS, ONE_PREFIX_MORE, ONE_SUFFIX_MORE, SIXTY_PREFIXES, SIXTY_SUFFIXES,
-    THREE_BACK, TURN, TWICE, program_text,
+    THREE_BACK, TURN, TWICE,
 )
-
-
-def main(*body, head=(), symbols="ab"):
-    return Program(program_text(*body, head=head, symbols=symbols))
-
-
-def chain_of(texts):
-    return Chain(Program(texts[0]), Program(texts[1]))
 
 
 def random_machines(seeds):

@@ -11,26 +11,16 @@ from fewgoings.enders import count, ender, leading
 from fewgoings.errors import BadLength, BadOutcome, BadWord, OtherSymbols, TooMany
 from fewgoings.programs import Program
 from fewgoings.runs import run
+from fewgoings.steps import first_state
 from tests.brute import all_texts, entries, stretch, word_key
 from tests.judges import closure
+from tests.machines import COPY, NEVER, chain_of, main
 from tests.randoms import Maker, Sweeper
 from tests.samples import (
     LAST, LOOP_AT_B, MANY_PREFIXES, NEXT, NO_STRINGS, ONE_PREFIX_MORE, ONE_SUFFIX_MORE, SIXTY_PREFIXES, SIXTY_SUFFIXES,
-    TURN, TWICE, TWO_HUNDRED, program_text,
+    TURN, TWICE, TWO_HUNDRED,
 )
-from fewgoings.steps import first_state
 
-
-def main(*body, head=(), symbols="ab"):
-    return Program(program_text(*body, head=head, symbols=symbols))
-
-
-def chain_of(texts):
-    return Chain(Program(texts[0]), Program(texts[1]))
-
-
-COPY = main("while not at >", "  copy", "  right")
-NEVER = main("while at <", "  write x")
 # Never ends where the number of symbols is even.
 EVEN_NEVER = main("while not at >", "  add n 1", "  right", "while n = 1", "  write x", head=["cell n 1"])
 # Never ends where the last symbol but one is a b.

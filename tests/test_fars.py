@@ -13,24 +13,14 @@ from fewgoings.programs import Program
 from fewgoings.runs import run
 from fewgoings.writers import writer, written
 from tests.fartexts import AT_THE_LIMITS, NO_FARS, deep, drawn_far, text_of
+from tests.machines import COPY, NEVER, chain_of, main
 from tests.randoms import Maker, Sweeper
 from tests.samples import (
     FORTY_STATES, LAST, LOOP_AT_B, MANY_PREFIXES, NEXT, NO_STRINGS, ONE_LEFT_STATE_MORE, ONE_PREFIX_MORE, ONE_SUFFIX_MORE,
-    SIXTY_PREFIXES, SIXTY_SUFFIXES, THREE_BACK, TURN, TWICE, program_text,
+    SIXTY_PREFIXES, SIXTY_SUFFIXES, THREE_BACK, TURN, TWICE,
 )
 from tests.test_writers import random_writer
 
-
-def main(*body, head=(), symbols="ab"):
-    return Program(program_text(*body, head=head, symbols=symbols))
-
-
-def chain_of(texts):
-    return Chain(Program(texts[0]), Program(texts[1]))
-
-
-COPY = main("while not at >", "  copy", "  right")
-NEVER = main("while at <", "  write x")
 # Never ends where the number of symbols is even.
 EVEN_NEVER = main("while not at >", "  add n 1", "  right", "while n = 1", "  write x", head=["cell n 1"])
 

@@ -14,23 +14,13 @@ from fewgoings.programs import Program
 from fewgoings.runs import run
 from tests.brute import Keys, all_texts, cost_at, least_by, output_on, trace_at
 from tests.judges import Judge
+from tests.machines import COPY, NEVER, chain_of, main
 from tests.randoms import Maker, Sweeper
 from tests.samples import (
     LAST, LOOP_AT_B, MANY_PREFIXES, NO_STRINGS, ONE_PREFIX_MORE, ONE_SUFFIX_MORE, SIXTY_PREFIXES, SIXTY_SUFFIXES,
-    TURN, TWICE, program_text,
+    TURN, TWICE,
 )
 
-
-def main(*body, head=(), symbols="ab"):
-    return Program(program_text(*body, head=head, symbols=symbols))
-
-
-def chain_of(texts):
-    return Chain(Program(texts[0]), Program(texts[1]))
-
-
-COPY = main("while not at >", "  copy", "  right")
-NEVER = main("while at <", "  write x")
 SILENT = main("while not at >", "  right")
 ENDS_WITHOUT_B = main("while not at b>", "  right", "while at b", "  left", "  right")
 ODD_LENGTH = main("while not at >", "  add n 1", "  right", "while n = 1", "  write x", head=["cell n 1"])

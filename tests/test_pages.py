@@ -11,16 +11,11 @@ from fewgoings.fars import far_many, far_passes, far_words, far_written
 from fewgoings.pages import Page
 from fewgoings.programs import Program
 from tests.fartexts import AT_THE_LIMITS, NO_FARS, drawn_far
+from tests.machines import COPY, main
 from tests.plain import KINDS, Plain, outcome_of, slices_of
 from tests.randoms import Maker, Sweeper
 from tests.samples import LAST, LOOP_AT_B, MANY_PREFIXES, NEXT, NO_STRINGS, TURN, TWICE, program_text
 
-
-def main(*body, head=(), symbols="ab"):
-    return Program(program_text(*body, head=head, symbols=symbols))
-
-
-COPY = main("while not at >", "  copy", "  right")
 PROGRAMS = [TURN, TWICE, LAST, NEXT, LOOP_AT_B, MANY_PREFIXES, COPY.text]
 
 

@@ -11,15 +11,10 @@ from fewgoings.passes import output_of, passes, traces
 from fewgoings.programs import Program
 from fewgoings.runs import run
 from tests.brute import all_texts, cost_at, cut_passes, output_on, trace_at
+from tests.machines import COPY, main
 from tests.randoms import Maker, Sweeper
-from tests.samples import LAST, LOOP_AT_B, NO_STRINGS, TURN, TWICE, program_text
+from tests.samples import LAST, LOOP_AT_B, NO_STRINGS, TURN, TWICE
 
-
-def main(*body, head=(), symbols="ab"):
-    return Program(program_text(*body, head=head, symbols=symbols))
-
-
-COPY = main("while not at >", "  copy", "  right")
 MARKS = main("write l", "while not at >", "  right", "write r", "while not at <", "  left", "write l")
 
 

@@ -10,18 +10,13 @@ from fewgoings.programs import Program
 from fewgoings.readers import Reader
 from fewgoings.sights import lookahead
 from tests.brute import all_texts, cut_passes, output_on
+from tests.machines import COPY, main
 from tests.randoms import Maker, Sweeper
 from tests.samples import (
     LAST, LOOP_AT_B, MANY_PREFIXES, NEXT, NO_STRINGS, ONE_LEFT_STATE_MORE, ONE_RIGHT_STATE_MORE, ONE_SUFFIX_MORE,
-    THREE_BACK, TURN, TWICE, program_text,
+    THREE_BACK, TURN, TWICE,
 )
 
-
-def main(*body, head=(), symbols="ab"):
-    return Program(program_text(*body, head=head, symbols=symbols))
-
-
-COPY = main("while not at >", "  copy", "  right")
 # Copies a alone, and z in the place of b.
 OTHER_COPY = main("right", "while not at >", "  if at a", "    copy", "  else", "    write z", "  right")
 # Writes nothing if the text has a b, otherwise copies it.

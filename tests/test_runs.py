@@ -7,13 +7,10 @@ import unittest
 from fewgoings.errors import BadText
 from fewgoings.programs import Program
 from fewgoings.runs import configurations, run
+from tests.machines import main
 from tests.randoms import Maker
 from tests.reference import walk
-from tests.samples import LAST, LOOP_AT_B, NO_STRINGS, TURN, TWICE, program_text
-
-
-def main(*body, head=(), symbols="ab"):
-    return Program(program_text(*body, head=head, symbols=symbols))
+from tests.samples import LAST, LOOP_AT_B, NO_STRINGS, TURN, TWICE
 
 
 def rows(program, text):

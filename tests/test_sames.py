@@ -12,23 +12,13 @@ from fewgoings.runs import run
 from fewgoings.sames import lean, same, shows_same
 from tests.brute import Keys, all_texts, in_text_order, least_by, output_on, trace_at
 from tests.judges import closure
+from tests.machines import COPY, NEVER, chain_of, main
 from tests.randoms import Maker, Sweeper
 from tests.samples import (
     LAST, LOOP_AT_B, MANY_PREFIXES, NEXT, NO_STRINGS, ONE_PREFIX_MORE, ONE_SUFFIX_MORE, SIXTY_PREFIXES, SIXTY_SUFFIXES,
-    THREE_BACK, TURN, TWICE, program_text,
+    THREE_BACK, TURN, TWICE,
 )
 
-
-def main(*body, head=(), symbols="ab"):
-    return Program(program_text(*body, head=head, symbols=symbols))
-
-
-def chain_of(texts):
-    return Chain(Program(texts[0]), Program(texts[1]))
-
-
-COPY = main("while not at >", "  copy", "  right")
-NEVER = main("while at <", "  write x")
 THIRD = main("while not at >", "  if at a", "    copy", "  right")
 
 

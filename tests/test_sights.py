@@ -9,18 +9,13 @@ from fewgoings.programs import Program
 from fewgoings.sights import lookahead, shows_lookahead
 from fewgoings.writers import writer
 from tests.brute import all_texts, cut_passes, output_on
+from tests.machines import COPY, main
 from tests.randoms import Maker, Sweeper
 from tests.samples import (
     FORTY_STATES, LAST, LOOP_AT_B, MANY_PREFIXES, NEXT, NO_STRINGS, ONE_LEFT_STATE_MORE, ONE_RIGHT_STATE_MORE,
-    ONE_SUFFIX_MORE, SIXTY_SUFFIXES, THREE_BACK, TURN, TWICE, program_text,
+    ONE_SUFFIX_MORE, SIXTY_SUFFIXES, THREE_BACK, TURN, TWICE,
 )
 
-
-def main(*body, head=(), symbols="ab"):
-    return Program(program_text(*body, head=head, symbols=symbols))
-
-
-COPY = main("while not at >", "  copy", "  right")
 # Writes x where the symbol after the next one is an a.
 SECOND = main("right", "while not at >", "  right", "  right", "  if at a", "    set n 1", "  left", "  if not at >",
               "    left", "  if n = 1", "    write x", "  set n 0", "  right", head=["cell n 1"])
@@ -28,6 +23,14 @@ SECOND = main("right", "while not at >", "  right", "  right", "  if at a", "   
 MARK = main("right", "while not at >", "  right", "  if at >", "    left", "    write x", "    stop")
 # The left mark alone depends on what comes behind it, namely on the first symbol.
 FIRST = main("right", "if at b", "  left", "  write x")
+# Writes x at a symbol behind ab, if an a follows.
+BEHIND_AB = main("right", "while not at >", "  right", "  if at a", "    set n 1", "  left", "  if n = 1", "    if m = 2",
+                 "      write x", "  set n 0", "  if at a", "    set m 1", "  else", "    if m = 1", "      set m 2", "    else",
+                 "      set m 0", "  right", head=["cell n 1", "cell m 2"])
+# Tells at the left mark whether the text begins with ab or ends with it.
+AB_AT_BOTH = main("right", "if at a", "  set n 1", "right", "if at b", "  if n = 1", "    set m 1", "while not at >", "  right",
+                  "left", "if at b", "  left", "  if at a", "    set m 2", "while not at <", "  left", "if m = 1", "  write x",
+                  head=["cell n 1", "cell m 2"])
 
 
 class Words:
@@ -138,6 +141,11 @@ class LookaheadTest(unittest.TestCase):
         self.assertEqual(found[:2], ("endless", ""))
         self.assertNotEqual(found[3], "")
 
+    def test_the_order_of_symbols_in_the_texts(self):
+        found = lookahead(BEHIND_AB, 1)
+        self.assertEqual((found[:2], found[2][0][:-1]), (("sees", 1), "ab"))
+        self.assertEqual(lookahead(AB_AT_BOTH, 1)[0], "endless")
+
     def test_the_right_mark_alone_decides(self):
         prefix, one, other = lookahead(MARK, 1)[2]
         self.assertNotEqual(prefix, "")
@@ -154,7 +162,7 @@ class LookaheadTest(unittest.TestCase):
 
     def test_samples(self):
         programs = [Program(text) for text in (TURN, TWICE, LAST, LOOP_AT_B, NEXT, THREE_BACK, SIXTY_SUFFIXES)]
-        for program, number, found in found_for([*programs, SECOND, MARK, FIRST], range(1, 10)):
+        for program, number, found in found_for([*programs, SECOND, MARK, FIRST, BEHIND_AB, AB_AT_BOTH], range(1, 10)):
             self.check(program, number, found)
 
     def test_random_programs(self):

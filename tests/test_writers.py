@@ -11,19 +11,14 @@ from fewgoings.passes import passes
 from fewgoings.programs import Program
 from fewgoings.writers import is_writer, partings, shows_writer, writer, written
 from tests.brute import all_texts
+from tests.machines import COPY, main
 from tests.randoms import Maker, Sweeper
 from tests.samples import (
     FORTY_STATES, LAST, LOOP_AT_B, MANY_PREFIXES, NO_STRINGS, ONE_LEFT_STATE_MORE, ONE_RIGHT_STATE_MORE,
-    ONE_SUFFIX_MORE, SIXTY_SUFFIXES, THREE_BACK, TURN, TWICE, program_text,
+    ONE_SUFFIX_MORE, SIXTY_SUFFIXES, THREE_BACK, TURN, TWICE,
 )
 
-
-def main(*body, head=(), symbols="ab"):
-    return Program(program_text(*body, head=head, symbols=symbols))
-
-
 NOTHING = (((0, 0),), ((0, 0),), (), (), ())
-COPY = main("while not at >", "  copy", "  right")
 OF_LAST = (((0, 0),), ((1, 2), (1, 1), (2, 2)), ((0, "y"), (1, "x"), (2, "y")), (), ())
 
 
