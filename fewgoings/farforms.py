@@ -58,6 +58,7 @@ def far_from(text):
     if not isinstance(text, str):
         raise BadFar(text)
     far, end = pairs_from(text, 0, 1)
+    # What is no piece or no number was taken as it is, and makes no far text.
     if end != len(text) or size_of_far(ALPHABET, far) == 0:
         raise BadFar(text)
     return far
@@ -76,11 +77,10 @@ def pairs_from(text, start, depth):
 def pair_from(text, start, depth):
     """(pair, end) of the pair that is written from an index of a text on; BadFar if there is none."""
     piece, end = piece_from(text, start, depth)
-    digits = run_from(text, end + 1, DIGITS)
-    times = number_of(digits)
-    if text[end:end + 1] != "*" or times is None:
+    if text[end:end + 1] != "*":
         raise BadFar(text)
-    return (piece, times), end + 1 + len(digits)
+    digits = run_from(text, end + 1, DIGITS)
+    return (piece, number_of(digits)), end + 1 + len(digits)
 
 
 def piece_from(text, start, depth):

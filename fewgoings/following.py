@@ -49,7 +49,4 @@ class Follower:
     def close(self):
         """Reads the right mark; returns the ascending (position, word) of all that was not settled."""
         rows = [(position, words[0]) for words, positions in self.groups.items() for position in positions]
-        rows.append((self.many, self.sheet.last_word(self.left)))
-        self.groups = {}
-        self.settled.extend(rows)
-        return sorted(rows)
+        return [*sorted(rows), (self.many, self.sheet.last_word(self.left))]

@@ -34,11 +34,10 @@ def read_journal(lines):
 
 def first_page(line):
     """The page that the first line of a journal tells, None if it is none."""
-    text = program_text_from(line.removeprefix("page "))
-    if not line.startswith("page ") or text is None:
+    if not line.startswith("page "):
         return None
     try:
-        return Page(Program(text))
+        return Page(Program(program_text_from(line.removeprefix("page "))))
     except BadProgram:
         return None
 

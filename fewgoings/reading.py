@@ -37,12 +37,8 @@ class Reading:
 def word_of_writer(symbols, writer, block, position):
     """The word that a writer writes at a position of a block with its marks."""
     sheet = Sheet(symbols, writer)
-    last = block.length - 1
-    left = right = 0
-    if position > 1:
-        left = Reading(sheet.lefts, 1).state_over(cut(block, 1, position - 1))
-    if position < last - 1:
-        right = Reading(sheet.rights, -1).state_over(cut(block, position + 1, last - 1))
+    left = Reading(sheet.lefts, 1).state_over(cut(block, 1, position - 1))
+    right = Reading(sheet.rights, -1).state_over(cut(block, position + 1, block.length - 2))
     sign = sign_at(block, position)
     if sign in "<>":
         return sheet.first_word(right) if sign == "<" else sheet.last_word(left)

@@ -208,6 +208,20 @@ class FarTest(unittest.TestCase):
         chain = Chain(main("while not at >", "  right"), main("right", "write z", "left", "write y"))
         self.assertEqual([far_many(chain, far), far_passes(chain, far), far_passes(chain, far, turns=True)], [2, 2, 2])
 
+    def test_letters_of_a_chain_at_the_marks(self):
+        # What the first program writes at a mark counts as written there, what the second one writes at its marks too.
+        for one, other, many in [
+            (main("while not at >", "  right", "write a"), main("while not at >", "  right", "write z", "left", "copy"), (1, 1)),
+            (main("while not at >", "  right", "left", "write a"), main("while not at >", "  right", "write z", "left", "copy"), (2, 2)),
+            (main("write a"), main("right", "copy", "left", "write z"), (1, 1)),
+            (main("right", "write a"), main("right", "copy", "left", "write z"), (2, 2)),
+            (main("while not at >", "  right", "write a"), main("write x", "right", "copy", "right", "write y"), (1, 1)),
+        ]:
+            chain = Chain(one, other)
+            for far in [(("ab", 2),), (("ab", 10 ** 18),)]:
+                self.assertEqual((far_passes(chain, far), far_passes(chain, far, turns=True)), many)
+            self.check(chain, (("ab", 2),))
+
     def test_names_of_the_parameters(self):
         far = (("ab", 2),)
         self.assertEqual(far_length(far=far), 4)

@@ -11,7 +11,7 @@ from fewgoings.fars import far_many, far_passes, far_words, far_written
 from fewgoings.pages import Page
 from fewgoings.programs import Program
 from tests.fartexts import AT_THE_LIMITS, NO_FARS, drawn_far
-from tests.machines import COPY, main
+from tests.machines import COPY, NEVER, main
 from tests.plain import KINDS, Plain, outcome_of, slices_of
 from tests.randoms import Maker, Sweeper
 from tests.samples import LAST, LOOP_AT_B, MANY_PREFIXES, NEXT, NO_STRINGS, TURN, TWICE, program_text
@@ -477,6 +477,15 @@ class TrialsTest(unittest.TestCase):
         with page.trial():
             pass
         self.assertEqual(page.length, 5)
+
+    def test_each_thing_that_a_program_changes(self):
+        page = self.page()
+        kept = state_of(page)
+        for text in (NEVER.text, TWICE, LAST, program_text("stop")):
+            with page.trial():
+                page.reprogram(text)
+                self.assertNotEqual((page.outcome, page.many, page.passes, page.turns), tuple(kept[3:7]))
+            self.assertEqual(state_of(page), kept)
 
     def test_kept(self):
         page, other = self.page(), self.page()
