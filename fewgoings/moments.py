@@ -40,12 +40,16 @@ class Moment:
         return ">" if position > self.length else identity_in(self.slices, position)
 
     def position_of(self, identity):
-        """The position of what has an identity; None for any value that nothing has."""
-        if identity in ("<", ">"):
-            return 0 if identity == "<" else self.length + 1
+        """The position of the symbol with an identity; None for any value that is of none, also for a mark."""
         if not isinstance(identity, tuple) or len(identity) != 2 or not all([is_number(part) for part in identity]):
             return None
         return position_in(self.slices, identity)
+
+    def place_of(self, identity):
+        """The position of a mark, or of the symbol with an identity; None for any other value."""
+        if identity in ("<", ">"):
+            return 0 if identity == "<" else self.length + 1
+        return self.position_of(identity)
 
     def symbol_at(self, position):
         """The symbol at a position."""

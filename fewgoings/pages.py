@@ -143,7 +143,7 @@ class Page:
         return self.moment.identity_at(position)
 
     def position(self, identity):
-        """The position of the symbol or mark with an identity, None if there is none now."""
+        """The position of the symbol with an identity, None if there is none now; a mark is no symbol."""
         return self.moment.position_of(identity)
 
     def written(self, index):
@@ -158,7 +158,7 @@ class Page:
 
     def present(self, identity):
         """The position of the symbol or mark with an identity. NoIdentity."""
-        position = self.moment.position_of(identity)
+        position = self.moment.place_of(identity)
         if position is None:
             raise NoIdentity(identity)
         return position
@@ -168,7 +168,7 @@ class Page:
         position = self.present(identity)
         if self.before is None:
             return False
-        earlier = self.before.position_of(identity)
+        earlier = self.before.place_of(identity)
         if earlier is None:
             return True
         return self.before.words_alone(earlier) != self.moment.words_alone(position)

@@ -135,7 +135,7 @@ class Plain:
             result[0], len(output), len(passes(program, text)), len(passes(program, text, turns=True))))
         case.assertEqual([page.symbol(at) for at in range(1, len(text) + 1)], list(text))
         case.assertEqual([page.identity(at) for at in range(1, len(text) + 1)], places[1:-1])
-        case.assertEqual([page.position(identity) for identity in places], list(range(len(text) + 2)))
+        case.assertEqual([page.position(identity) for identity in places], [None, *range(1, len(text) + 1), None])
         for index in range(0, len(output), 1 + len(output) // 5):
             letter, position = output[index]
             case.assertEqual(page.written(index), (letter, places[position]))

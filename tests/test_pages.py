@@ -66,7 +66,7 @@ class EditsTest(unittest.TestCase):
         self.assertLessEqual({"program", "length", "slices", "outcome", "many", "passes", "turns", "journal"}, set(vars(page)))
         self.assertEqual((page.length, page.slices, page.outcome, page.many, page.passes, page.turns), (0, (), "done", 1, 1, 1))
         self.assertEqual((page.written(0), page.words("<"), page.words(">")), (("y", "<"), ((1, "y"),), ()))
-        self.assertEqual((page.position("<"), page.position(">"), page.position((0, 0))), (0, 1, None))
+        self.assertEqual((page.position("<"), page.position(">"), page.position((0, 0))), (None, None, None))
         self.assertEqual((page.touched("<"), page.touched(">")), (False, False))
         self.assertEqual(Page(main("while at <", "  copy")).outcome, "ever")
 
@@ -370,7 +370,7 @@ class QuestionsTest(unittest.TestCase):
                     call(value)
                 self.assertIs(caught.exception.value, value)
             self.assertEqual(value, kept)
-        self.assertEqual([page.position(identity) for identity in ("<", (0, 0), (0, 2), (0, 3), ">")], [0, 1, 2, 3, 4])
+        self.assertEqual([page.position(identity) for identity in ("<", (0, 0), (0, 2), (0, 3), ">")], [None, 1, 2, 3, None])
         page.undo()
         self.assertEqual(page.position((0, 1)), 2)
 
@@ -379,6 +379,37 @@ class QuestionsTest(unittest.TestCase):
         page.put(1, (("ab", 2),))
         self.assertEqual([page.written(0), page.written(1)], [("x", "<"), ("y", ">")])
         self.assertEqual((page.words("<"), page.words(">"), page.words((0, 0))), (((1, "x"),), ((1, "y"),), ()))
+
+    def test_marks_have_no_position(self):
+        # The marks may be asked for their words, but they are no symbols, whatever edits come.
+        page = Page(main("write x", "while not at >", "  right", "write y", "left"))
+
+        def check(many):
+            self.assertEqual((page.position("<"), page.position(">")), (None, None))
+            self.assertEqual([page.position(page.identity(at)) for at in range(1, many + 1)], list(range(1, many + 1)))
+            self.assertEqual([page.written(0), page.written(1)], [("x", "<"), ("y", ">")])
+            self.assertEqual((page.words("<"), page.words(">")), (((1, "x"),), ((1, "y"),)))
+            self.assertEqual((page.touched("<"), page.touched(">")), (False, False))
+
+        check(0)
+        self.assertEqual([page.put(1, (("ab", 2),)), page.position((0, 3))], [0, 4])
+        check(4)
+        page.move(1, 1, 5)
+        self.assertEqual([page.position((0, index)) for index in range(5)], [4, 1, 2, 3, None])
+        check(4)
+        page.strike(1, 4)
+        check(0)
+        page.undo()
+        check(4)
+        with page.trial():
+            page.strike(2, 3)
+            check(2)
+        check(4)
+        self.assertEqual([page.copy().position(mark) for mark in ("<", ">")], [None, None])
+        page.reprogram(program_text("write z", "while not at >", "  right", "write y", "write y", "left"))
+        self.assertEqual((page.position("<"), page.position(">")), (None, None))
+        self.assertEqual((page.words("<"), page.words(">")), (((1, "z"),), ((1, "yy"),)))
+        self.assertEqual((page.touched("<"), page.touched(">")), (True, True))
 
     def test_long_pages_beside_far_texts(self):
         # The text of the page is also that of one far text.
@@ -396,7 +427,9 @@ class QuestionsTest(unittest.TestCase):
                 self.assertEqual(page.words(page.identity(position)), far_words(program, far, position))
             for index in (0, page.many // 3, page.many - 1):
                 letter, position = far_written(program, far, index)
-                self.assertEqual((page.written(index)[0], page.position(page.written(index)[1])), (letter, position))
+                identity = {0: "<", page.length + 1: ">"}.get(position) or page.identity(position)
+                self.assertEqual(page.written(index), (letter, identity))
+                self.assertEqual(page.position(identity), position if 1 <= position <= page.length else None)
             self.assertEqual((page.identity(1), page.identity(page.length)), ((1, 0), (0, 2 * 10 ** 15 + 4)))
             self.assertEqual(page.position((0, 10 ** 15)), 3 * 10 ** 12 + 1)
 
